@@ -1,0 +1,143 @@
+package ware
+
+import (
+	"strconv"
+	"strings"
+
+	"potbank/api"
+)
+
+const (
+	shapeWord = "shape"
+	bodyWord  = "body"
+	maxDigits = 7
+)
+
+// wrongLine is the number of a line that has another form than a text of wares; reading one panics with it.
+type wrongLine int
+
+// Print returns the text of wares.
+func Print(w api.Wares) (string, api.Errno) {
+	if e := Check(w); e != api.OK {
+		return "", e
+	}
+	var text strings.Builder
+	for _, s := range w.Shapes {
+		writeLine(&text, shapeWord, s.Id, s.Wide.Lo, s.Wide.Hi, s.Deep.Lo, s.Deep.Hi, s.High.Lo, s.High.Hi,
+			s.Nest, s.Weight.Lo, s.Weight.Hi, s.Bears)
+	}
+	for _, b := range w.Bodies {
+		writeLine(&text, bodyWord, b.Id, b.Shrink.Lo, b.Shrink.Hi, b.Loss.Lo, b.Loss.Hi, b.Heat.Lo, b.Heat.Hi)
+	}
+	return text.String(), api.OK
+}
+
+func writeLine(text *strings.Builder, word string, numbers ...int) {
+	text.WriteString(word)
+	for _, n := range numbers {
+		text.WriteByte(' ')
+		text.WriteString(strconv.Itoa(n))
+	}
+	text.WriteByte('\n')
+}
+
+// Parse reads a text of wares; with ErrText it returns the number of the first line that is wrong.
+func Parse(text string) (w api.Wares, line int, err api.Errno) {
+	if len(text) > api.MaxWareLen {
+		return api.Wares{}, 0, api.ErrLong
+	}
+	defer func() {
+		if r := recover(); r != nil {
+			wrong, _ := r.(wrongLine)
+			w, line, err = api.Wares{}, int(wrong), api.ErrText
+		}
+	}()
+	w = read(text)
+	if e := Check(w); e != api.OK {
+		return api.Wares{}, 0, e
+	}
+	return w, 0, api.OK
+}
+
+// read returns the shapes and the bodies of a text, in the order of their lines.
+func read(text string) api.Wares {
+	var w api.Wares
+	for i, line := range strings.Split(text, "\n") {
+		words := wordsOf(line)
+		if len(words) == 0 {
+			continue
+		}
+		switch words[0] {
+		case shapeWord:
+			w.Shapes = append(w.Shapes, readShape(i+1, words[1:]))
+		case bodyWord:
+			w.Bodies = append(w.Bodies, readBody(i+1, words[1:]))
+		default:
+			panic(wrongLine(i + 1))
+		}
+	}
+	return w
+}
+
+// wordsOf returns the words of a line; a line that says nothing has none.
+func wordsOf(line string) []string {
+	if strings.HasPrefix(line, "#") {
+		return nil
+	}
+	// No other white space parts words, so that strings.Fields would take too much.
+	return strings.FieldsFunc(line, func(r rune) bool { return r == ' ' })
+}
+
+func readShape(line int, words []string) api.Shape {
+	n := readNumbers(line, words, 11)
+	return api.Shape{
+		Id:     n[0],
+		Wide:   api.Range{Lo: n[1], Hi: n[2]},
+		Deep:   api.Range{Lo: n[3], Hi: n[4]},
+		High:   api.Range{Lo: n[5], Hi: n[6]},
+		Nest:   n[7],
+		Weight: api.Range{Lo: n[8], Hi: n[9]},
+		Bears:  n[10],
+	}
+}
+
+func readBody(line int, words []string) api.Body {
+	n := readNumbers(line, words, 7)
+	return api.Body{
+		Id:     n[0],
+		Shrink: api.Range{Lo: n[1], Hi: n[2]},
+		Loss:   api.Range{Lo: n[3], Hi: n[4]},
+		Heat:   api.Range{Lo: n[5], Hi: n[6]},
+	}
+}
+
+// readNumbers returns what the words tell; the line is wrong unless they are so many numbers.
+func readNumbers(line int, words []string, many int) []int {
+	if len(words) != many {
+		panic(wrongLine(line))
+	}
+	numbers := make([]int, many)
+	for i, word := range words {
+		n, ok := readNumber(word)
+		if !ok {
+			panic(wrongLine(line))
+		}
+		numbers[i] = n
+	}
+	return numbers
+}
+
+// readNumber reads decimal digits alone: strconv.Atoi would take signs and leading zeros too.
+func readNumber(word string) (int, bool) {
+	if len(word) > maxDigits || len(word) > 1 && word[0] == '0' {
+		return 0, false
+	}
+	n := 0
+	for _, c := range []byte(word) {
+		if c < '0' || c > '9' {
+			return 0, false
+		}
+		n = 10*n + int(c-'0')
+	}
+	return n, true
+}
