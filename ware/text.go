@@ -5,6 +5,7 @@ import (
 	"strings"
 
 	"potbank/api"
+	"potbank/lines"
 )
 
 const (
@@ -62,30 +63,17 @@ func Parse(text string) (w api.Wares, line int, err api.Errno) {
 // read returns the shapes and the bodies of a text, in the order of their lines.
 func read(text string) api.Wares {
 	var w api.Wares
-	for i, line := range strings.Split(text, "\n") {
-		words := wordsOf(line)
-		if len(words) == 0 {
-			continue
-		}
+	for line, words := range lines.Saying(text) {
 		switch words[0] {
 		case shapeWord:
-			w.Shapes = append(w.Shapes, readShape(i+1, words[1:]))
+			w.Shapes = append(w.Shapes, readShape(line, words[1:]))
 		case bodyWord:
-			w.Bodies = append(w.Bodies, readBody(i+1, words[1:]))
+			w.Bodies = append(w.Bodies, readBody(line, words[1:]))
 		default:
-			panic(wrongLine(i + 1))
+			panic(wrongLine(line))
 		}
 	}
 	return w
-}
-
-// wordsOf returns the words of a line; a line that says nothing has none.
-func wordsOf(line string) []string {
-	if strings.HasPrefix(line, "#") {
-		return nil
-	}
-	// No other white space parts words, so that strings.Fields would take too much.
-	return strings.FieldsFunc(line, func(r rune) bool { return r == ' ' })
 }
 
 func readShape(line int, words []string) api.Shape {
@@ -118,26 +106,11 @@ func readNumbers(line int, words []string, many int) []int {
 	}
 	numbers := make([]int, many)
 	for i, word := range words {
-		n, ok := readNumber(word)
+		n, ok := lines.Number(word, maxDigits)
 		if !ok {
 			panic(wrongLine(line))
 		}
 		numbers[i] = n
 	}
 	return numbers
-}
-
-// readNumber reads decimal digits alone: strconv.Atoi would take signs and leading zeros too.
-func readNumber(word string) (int, bool) {
-	if len(word) > maxDigits || len(word) > 1 && word[0] == '0' {
-		return 0, false
-	}
-	n := 0
-	for _, c := range []byte(word) {
-		if c < '0' || c > '9' {
-			return 0, false
-		}
-		n = 10*n + int(c-'0')
-	}
-	return n, true
 }

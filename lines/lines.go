@@ -1,0 +1,44 @@
+// Package lines parts texts into lines and words, and reads numbers, as rule R9 of shared/DOC.md has it for the texts of all layers.
+package lines
+
+import (
+	"iter"
+	"strings"
+)
+
+// Saying yields the lines of a text that say something: the number of each, and its words.
+func Saying(text string) iter.Seq2[int, []string] {
+	return func(yield func(int, []string) bool) {
+		for i, line := range strings.Split(text, "\n") {
+			words := wordsOf(line)
+			if len(words) > 0 && !yield(i+1, words) {
+				return
+			}
+		}
+	}
+}
+
+// wordsOf returns the words of a line; a line that says nothing has none.
+func wordsOf(line string) []string {
+	if strings.HasPrefix(line, "#") {
+		return nil
+	}
+	// No other white space parts words, so that strings.Fields would take too much.
+	return strings.FieldsFunc(line, func(r rune) bool { return r == ' ' })
+}
+
+// Number reads a number of at most so many digits (and 18, which an int surely holds).
+// It takes decimal digits alone: strconv.Atoi would take signs and leading zeros too.
+func Number(word string, digits int) (int, bool) {
+	if word == "" || len(word) > min(digits, 18) || len(word) > 1 && word[0] == '0' {
+		return 0, false
+	}
+	n := 0
+	for _, c := range []byte(word) {
+		if c < '0' || c > '9' {
+			return 0, false
+		}
+		n = 10*n + int(c-'0')
+	}
+	return n, true
+}
