@@ -1,8 +1,9 @@
-// Package lines parts texts into lines and words, and reads numbers, as rule R9 of shared/DOC.md has it for the texts of all layers.
+// Package lines parts texts into lines and words, and reads and writes numbers, as rule R9 of shared/DOC.md has it for the texts of all layers.
 package lines
 
 import (
 	"iter"
+	"strconv"
 	"strings"
 )
 
@@ -16,6 +17,15 @@ func Saying(text string) iter.Seq2[int, []string] {
 			}
 		}
 	}
+}
+
+// Count returns how many lines a text has, those that say nothing too.
+func Count(text string) int {
+	ends := strings.Count(text, "\n")
+	if text == "" || strings.HasSuffix(text, "\n") {
+		return ends
+	}
+	return ends + 1
 }
 
 // wordsOf returns the words of a line; a line that says nothing has none.
@@ -41,4 +51,30 @@ func Number(word string, digits int) (int, bool) {
 		n = 10*n + int(c-'0')
 	}
 	return n, true
+}
+
+// Numbers reads words that are all numbers of at most so many digits; false unless they are, and are so many.
+func Numbers(words []string, many, digits int) ([]int, bool) {
+	if len(words) != many {
+		return nil, false
+	}
+	numbers := make([]int, 0, many)
+	for _, word := range words {
+		n, ok := Number(word, digits)
+		if !ok {
+			return nil, false
+		}
+		numbers = append(numbers, n)
+	}
+	return numbers, true
+}
+
+// Write adds a line of a word and numbers to a text.
+func Write(text *strings.Builder, word string, numbers ...int) {
+	text.WriteString(word)
+	for _, n := range numbers {
+		text.WriteByte(' ')
+		text.WriteString(strconv.Itoa(n))
+	}
+	text.WriteByte('\n')
 }

@@ -63,3 +63,37 @@ func TestNumber(t *testing.T) {
 		t.Error(n, ok)
 	}
 }
+
+func TestCount(t *testing.T) {
+	for text, want := range map[string]int{"": 0, "\n": 1, "a": 1, "a\n": 1, "#": 1, " ": 1, "\n\n": 2, "\na": 2, "a\n\nb": 3, "a\n#\n \n": 3, "\r": 1} {
+		if n := lines.Count(text); n != want {
+			t.Errorf("%q: %v, not %v", text, n, want)
+		}
+	}
+}
+
+func TestNumbers(t *testing.T) {
+	if l, ok := lines.Numbers([]string{"0", "99", "7"}, 3, 2); !slices.Equal(l, []int{0, 99, 7}) || !ok {
+		t.Error(l, ok)
+	}
+	if l, ok := lines.Numbers(nil, 0, 2); len(l) != 0 || !ok {
+		t.Error(l, ok)
+	}
+	for _, words := range [][]string{nil, {"1"}, {"1", "2", "3"}, {"1", "a"}, {"-1", "2"}, {"1", "100"}, {"01", "2"}} {
+		if l, ok := lines.Numbers(words, 2, 2); len(l) != 0 || ok {
+			t.Error(words, l, ok)
+		}
+	}
+	if l, ok := lines.Numbers(nil, -1, 2); len(l) != 0 || ok {
+		t.Error(l, ok)
+	}
+}
+
+func TestWrite(t *testing.T) {
+	var text strings.Builder
+	lines.Write(&text, "a", 1, 0, -20)
+	lines.Write(&text, "b")
+	if s := text.String(); s != "a 1 0 -20\nb\n" {
+		t.Errorf("%q", s)
+	}
+}

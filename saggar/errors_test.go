@@ -5,6 +5,7 @@ import (
 	"testing"
 
 	"potbank/api"
+	"potbank/probe"
 	"potbank/saggar"
 )
 
@@ -17,67 +18,50 @@ type args struct {
 	x api.Item
 }
 
-// call is a function with the errors that its arguments may have, in the order of the chapter; zero tells whether its results are zero values.
-type call struct {
-	name   string
-	errors []api.Errno
-	run    func(a args) (zero bool, e api.Errno)
-}
-
-// one turns a function with one result, and its error, into what run returns.
-func one[T any](zero func(T) bool) func(T, api.Errno) (bool, api.Errno) {
-	return func(v T, e api.Errno) (bool, api.Errno) { return zero(v), e }
-}
-
-func isZero[T comparable](v T) bool {
-	var none T
-	return v == none
-}
-
-func isEmpty[T any](l []T) bool { return len(l) == 0 }
+type call = probe.Call[args]
 
 func itemCalls() []call {
 	errors := []api.Errno{api.ErrWares, api.ErrBox, api.ErrItem}
 	return []call{
-		{"CheckItem", []api.Errno{api.ErrWares, api.ErrItem}, func(a args) (bool, api.Errno) { return true, saggar.CheckItem(a.w, a.x) }},
-		{"Foot", errors, func(a args) (bool, api.Errno) { return one(isZero[api.Foot])(saggar.Foot(a.w, a.s, a.x)) }},
-		{"Stands", errors, func(a args) (bool, api.Errno) { return one(isEmpty[api.Stand])(saggar.Stands(a.w, a.s, a.x)) }},
-		{"Most", errors, func(a args) (bool, api.Errno) { return one(isZero[int])(saggar.Most(a.w, a.s, a.x)) }},
+		probe.Of("CheckItem", []api.Errno{api.ErrWares, api.ErrItem}, func(a args) probe.Told { return probe.Error(saggar.CheckItem(a.w, a.x)) }),
+		probe.Of("Foot", errors, func(a args) probe.Told { return probe.Value(saggar.Foot(a.w, a.s, a.x)) }),
+		probe.Of("Stands", errors, func(a args) probe.Told { return probe.List(saggar.Stands(a.w, a.s, a.x)) }),
+		probe.Of("Most", errors, func(a args) probe.Told { return probe.Value(saggar.Most(a.w, a.s, a.x)) }),
 	}
 }
 
 func listCalls() []call {
 	errors := []api.Errno{api.ErrWares, api.ErrBox, api.ErrItems}
 	return []call{
-		{"Feet", errors, func(a args) (bool, api.Errno) { return one(isEmpty[api.Foot])(saggar.Feet(a.w, a.s, a.l)) }},
-		{"Pack", errors, func(a args) (bool, api.Errno) { return one(isEmpty[api.Stand])(saggar.Pack(a.w, a.s, a.l)) }},
-		{"Packs", errors, func(a args) (bool, api.Errno) { return one(isZero[int])(saggar.Packs(a.w, a.s, a.l)) }},
-		{"Nth", errors, func(a args) (bool, api.Errno) { return one(isEmpty[api.Stand])(saggar.Nth(a.w, a.s, a.l, -1)) }},
-		{"Refuse", errors, func(a args) (bool, api.Errno) {
+		probe.Of("Feet", errors, func(a args) probe.Told { return probe.List(saggar.Feet(a.w, a.s, a.l)) }),
+		probe.Of("Pack", errors, func(a args) probe.Told { return probe.List(saggar.Pack(a.w, a.s, a.l)) }),
+		probe.Of("Packs", errors, func(a args) probe.Told { return probe.Value(saggar.Packs(a.w, a.s, a.l)) }),
+		probe.Of("Nth", errors, func(a args) probe.Told { return probe.List(saggar.Nth(a.w, a.s, a.l, -1)) }),
+		probe.Of("Refuse", errors, func(a args) probe.Told {
 			r, e := saggar.Refuse(a.w, a.s, a.l)
-			return r.Kind == 0 && len(r.Items) == 0, e
-		}},
-		{"CheckRefusal", errors, func(a args) (bool, api.Errno) {
-			return true, saggar.CheckRefusal(a.w, a.s, a.l, api.Refusal{Kind: 9, Items: []int{-1}})
-		}},
-		{"Groups", errors, func(a args) (bool, api.Errno) { return one(isEmpty[[]int])(saggar.Groups(a.w, a.s, a.l)) }},
-		{"CheckGroups", errors, func(a args) (bool, api.Errno) {
-			return true, saggar.CheckGroups(a.w, a.s, a.l, [][]int{{-1}})
-		}},
+			return probe.Told{Zero: r.Kind == 0 && len(r.Items) == 0, Error: e}
+		}),
+		probe.Of("CheckRefusal", errors, func(a args) probe.Told {
+			return probe.Error(saggar.CheckRefusal(a.w, a.s, a.l, api.Refusal{Kind: 9, Items: []int{-1}}))
+		}),
+		probe.Of("Groups", errors, func(a args) probe.Told { return probe.List(saggar.Groups(a.w, a.s, a.l)) }),
+		probe.Of("CheckGroups", errors, func(a args) probe.Told {
+			return probe.Error(saggar.CheckGroups(a.w, a.s, a.l, [][]int{{-1}}))
+		}),
 	}
 }
 
 func packCalls() []call {
 	errors := []api.Errno{api.ErrWares, api.ErrBox, api.ErrItems, api.ErrPack}
 	return []call{
-		{"CheckPack", errors, func(a args) (bool, api.Errno) { return true, saggar.CheckPack(a.w, a.s, a.l, a.p) }},
-		{"Grid", errors, func(a args) (bool, api.Errno) { return one(isEmpty[[]int])(saggar.Grid(a.w, a.s, a.l, a.p)) }},
-		{"Free", errors, func(a args) (bool, api.Errno) { return one(isZero[int])(saggar.Free(a.w, a.s, a.l, a.p)) }},
-		{"Add", append(errors, api.ErrItem), func(a args) (bool, api.Errno) { return one(isZero[api.Stand])(saggar.Add(a.w, a.s, a.l, a.p, a.x)) }},
-		{"Take", errors, func(a args) (bool, api.Errno) {
+		probe.Of("CheckPack", errors, func(a args) probe.Told { return probe.Error(saggar.CheckPack(a.w, a.s, a.l, a.p)) }),
+		probe.Of("Grid", errors, func(a args) probe.Told { return probe.List(saggar.Grid(a.w, a.s, a.l, a.p)) }),
+		probe.Of("Free", errors, func(a args) probe.Told { return probe.Value(saggar.Free(a.w, a.s, a.l, a.p)) }),
+		probe.Of("Add", append(errors, api.ErrItem), func(a args) probe.Told { return probe.Value(saggar.Add(a.w, a.s, a.l, a.p, a.x)) }),
+		probe.Of("Take", errors, func(a args) probe.Told {
 			l, p, e := saggar.Take(a.w, a.s, a.l, a.p, -1)
-			return len(l) == 0 && len(p) == 0, e
-		}},
+			return probe.Told{Zero: len(l) == 0 && len(p) == 0, Error: e}
+		}),
 	}
 }
 
@@ -101,58 +85,47 @@ func spoilt(errors []api.Errno) args {
 	return a
 }
 
+func allCalls() []call { return slices.Concat(itemCalls(), listCalls(), packCalls()) }
+
 func TestFirstErrorDecides(t *testing.T) {
-	for _, c := range slices.Concat(itemCalls(), listCalls(), packCalls()) {
-		for choice := 1; choice < 1<<len(c.errors); choice++ {
-			var errors []api.Errno
-			for i, e := range c.errors {
-				if choice>>i&1 == 1 {
-					errors = append(errors, e)
-				}
-			}
-			if zero, e := c.run(spoilt(errors)); !zero || e != errors[0] {
-				t.Error(c.name, errors, zero, e)
-			}
-		}
+	for _, name := range probe.OutOfOrder(allCalls(), spoilt) {
+		t.Error(name)
 	}
 }
 
 // checkErrors runs calls with arguments of which one is wrong.
-func checkErrors(t *testing.T, calls []call, want api.Errno, spoil func(a *args)) {
+func checkErrors(t *testing.T, want api.Errno, spoil func(a *args)) {
 	t.Helper()
-	for _, c := range calls {
-		a := spoilt(nil)
-		spoil(&a)
-		if zero, e := c.run(a); slices.Contains(c.errors, want) && (!zero || e != want) {
-			t.Error(c.name, a, zero, e)
-		}
+	a := spoilt(nil)
+	spoil(&a)
+	for _, name := range probe.Missed(allCalls(), want, a) {
+		t.Error(name, a)
 	}
 }
 
 func TestEachWrongArgument(t *testing.T) {
-	all := slices.Concat(itemCalls(), listCalls(), packCalls())
 	for _, w := range wrongWares() {
-		checkErrors(t, all, api.ErrWares, func(a *args) { a.w = w })
+		checkErrors(t, api.ErrWares, func(a *args) { a.w = w })
 	}
 	for _, s := range wrongBoxes() {
-		checkErrors(t, all, api.ErrBox, func(a *args) { a.s = s })
+		checkErrors(t, api.ErrBox, func(a *args) { a.s = s })
 	}
 	for _, x := range wrongItems() {
-		checkErrors(t, all, api.ErrItem, func(a *args) { a.x = x })
+		checkErrors(t, api.ErrItem, func(a *args) { a.x = x })
 		for i := range three() {
-			checkErrors(t, all, api.ErrItems, func(a *args) { a.l[i] = x })
+			checkErrors(t, api.ErrItems, func(a *args) { a.l[i] = x })
 		}
 	}
 	tiny := item(1, 1, 0)
-	checkErrors(t, all, api.ErrItems, func(a *args) { a.l = slices.Repeat([]api.Item{tiny}, api.MaxItems+1) })
+	checkErrors(t, api.ErrItems, func(a *args) { a.l = slices.Repeat([]api.Item{tiny}, api.MaxItems+1) })
 }
 
 func TestArgumentsAreNotChanged(t *testing.T) {
 	a, b := spoilt(nil), spoilt(nil)
-	for _, c := range slices.Concat(itemCalls(), listCalls(), packCalls()) {
-		c.run(a)
+	for _, c := range allCalls() {
+		c.Run(a)
 		if !slices.Equal(a.w.Shapes, b.w.Shapes) || !slices.Equal(a.l, b.l) || !slices.Equal(a.p, b.p) {
-			t.Fatal(c.name, a)
+			t.Fatal(c.Name, a)
 		}
 	}
 }

@@ -7,10 +7,14 @@ import (
 	"testing"
 
 	"potbank/api"
+	"potbank/probe"
 	"potbank/saggar"
 )
 
-func span(lo, hi int) api.Range { return api.Range{Lo: lo, Hi: hi} }
+var (
+	span         = probe.Span
+	wrongNumbers = probe.WrongNumbers
+)
 
 // bowl, dish, pots, low and square are A, D, W, S and T of the chapter's examples.
 func bowl() api.Shape {
@@ -39,11 +43,6 @@ func turned(y, x int) api.Stand { return api.Stand{Y: y, X: x, Turned: true} }
 
 // three are the items of the chapter's example of Pack.
 func three() []api.Item { return []api.Item{item(2, 1, 5), item(2, 1, 5), item(1, 2, 4)} }
-
-// wrongNumbers lists numbers that are not from lo to hi.
-func wrongNumbers(lo, hi int) []int {
-	return []int{lo - 1, hi + 1, math.MinInt, math.MaxInt}
-}
 
 func wrongBoxes() []api.Box {
 	l := []api.Box{{}}

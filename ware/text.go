@@ -1,7 +1,6 @@
 package ware
 
 import (
-	"strconv"
 	"strings"
 
 	"potbank/api"
@@ -24,22 +23,13 @@ func Print(w api.Wares) (string, api.Errno) {
 	}
 	var text strings.Builder
 	for _, s := range w.Shapes {
-		writeLine(&text, shapeWord, s.Id, s.Wide.Lo, s.Wide.Hi, s.Deep.Lo, s.Deep.Hi, s.High.Lo, s.High.Hi,
+		lines.Write(&text, shapeWord, s.Id, s.Wide.Lo, s.Wide.Hi, s.Deep.Lo, s.Deep.Hi, s.High.Lo, s.High.Hi,
 			s.Nest, s.Weight.Lo, s.Weight.Hi, s.Bears)
 	}
 	for _, b := range w.Bodies {
-		writeLine(&text, bodyWord, b.Id, b.Shrink.Lo, b.Shrink.Hi, b.Loss.Lo, b.Loss.Hi, b.Heat.Lo, b.Heat.Hi)
+		lines.Write(&text, bodyWord, b.Id, b.Shrink.Lo, b.Shrink.Hi, b.Loss.Lo, b.Loss.Hi, b.Heat.Lo, b.Heat.Hi)
 	}
 	return text.String(), api.OK
-}
-
-func writeLine(text *strings.Builder, word string, numbers ...int) {
-	text.WriteString(word)
-	for _, n := range numbers {
-		text.WriteByte(' ')
-		text.WriteString(strconv.Itoa(n))
-	}
-	text.WriteByte('\n')
 }
 
 // Parse reads a text of wares; with ErrText it returns the number of the first line that is wrong.
@@ -101,16 +91,9 @@ func readBody(line int, words []string) api.Body {
 
 // readNumbers returns what the words tell; the line is wrong unless they are so many numbers.
 func readNumbers(line int, words []string, many int) []int {
-	if len(words) != many {
+	numbers, ok := lines.Numbers(words, many, maxDigits)
+	if !ok {
 		panic(wrongLine(line))
-	}
-	numbers := make([]int, many)
-	for i, word := range words {
-		n, ok := lines.Number(word, maxDigits)
-		if !ok {
-			panic(wrongLine(line))
-		}
-		numbers[i] = n
 	}
 	return numbers
 }

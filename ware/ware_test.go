@@ -5,10 +5,15 @@ import (
 	"testing"
 
 	"potbank/api"
+	"potbank/probe"
 	"potbank/ware"
 )
 
-func span(lo, hi int) api.Range { return api.Range{Lo: lo, Hi: hi} }
+var (
+	span         = probe.Span
+	wrongNumbers = probe.WrongNumbers
+	wrongRanges  = probe.WrongRanges
+)
 
 // clay and bowl are B and S of the chapter's examples.
 func clay() api.Body {
@@ -29,19 +34,6 @@ func widest() (api.Shape, api.Body) {
 
 func least() (api.Shape, api.Body) {
 	return api.Shape{Id: 1}, api.Body{Id: 1, Heat: span(1, 1)}
-}
-
-// wrongRanges lists ranges that are not within lo and hi, or are none.
-func wrongRanges(lo, hi int) []api.Range {
-	return []api.Range{
-		span(lo-1, hi), span(lo, hi+1), span(hi, hi-1), span(lo+1, lo), span(hi+1, hi+1), span(lo-1, lo-1),
-		span(math.MinInt, hi), span(lo, math.MaxInt), span(math.MaxInt, math.MinInt), span(math.MinInt, math.MinInt), span(math.MaxInt, math.MaxInt),
-	}
-}
-
-// wrongNumbers lists numbers that are not from lo to hi.
-func wrongNumbers(lo, hi int) []int {
-	return []int{lo - 1, hi + 1, math.MinInt, math.MaxInt}
 }
 
 func wrongShapes() []api.Shape {
