@@ -4,6 +4,7 @@ import (
 	"slices"
 
 	"potbank/api"
+	"potbank/limits"
 )
 
 // Breaks returns the first course of a bung that may break, with the weights that break it; ErrStands if none may.
@@ -24,16 +25,16 @@ func Breaks(b api.Bung) (api.Break, api.Errno) {
 
 // isBreak reports whether x is a break of saggars that stand on one another.
 func isBreak(saggars []api.Saggar, x api.Break) bool {
-	if !isBetween(x.Course, 0, len(saggars)-1) {
+	if !limits.IsBetween(x.Course, 0, len(saggars)-1) {
 		return false
 	}
 	bears, above := saggars[x.Course].Bears, saggars[x.Course+1:]
-	if len(x.Weights) != len(above) || !isBetween(x.Bears, bears.Lo, bears.Hi) {
+	if len(x.Weights) != len(above) || !limits.IsBetween(x.Bears, bears.Lo, bears.Hi) {
 		return false
 	}
 	load := 0
 	for i, weight := range x.Weights {
-		if !isBetween(weight, above[i].Weight.Lo, above[i].Weight.Hi) {
+		if !limits.IsBetween(weight, above[i].Weight.Lo, above[i].Weight.Hi) {
 			return false
 		}
 		load += weight

@@ -5,6 +5,7 @@ import (
 	"slices"
 
 	"potbank/api"
+	"potbank/limits"
 )
 
 // rule returns the indices of saggars by the setter's rule, from the bottom.
@@ -39,7 +40,7 @@ func ruled(l []api.Saggar) []api.Saggar { return chosen(l, rule(l)) }
 func areIndices(numbers []int, n int) bool {
 	seen := make([]bool, n)
 	for _, i := range numbers {
-		if !isBetween(i, 0, n-1) || seen[i] {
+		if !limits.IsBetween(i, 0, n-1) || seen[i] {
 			return false
 		}
 		seen[i] = true
@@ -82,7 +83,7 @@ func Swap(b api.Bung, at int) (api.Bung, api.Errno) {
 	if e := Check(b); e != api.OK {
 		return api.Bung{}, e
 	}
-	if !isBetween(at, 0, len(b.Saggars)-2) {
+	if !limits.IsBetween(at, 0, len(b.Saggars)-2) {
 		return api.Bung{}, api.ErrArg
 	}
 	saggars := slices.Clone(b.Saggars)

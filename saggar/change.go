@@ -4,6 +4,7 @@ import (
 	"slices"
 
 	"potbank/api"
+	"potbank/limits"
 )
 
 // without returns a copy of a list that lacks the element with an index.
@@ -63,7 +64,7 @@ func Take(w api.Wares, s api.Box, l []api.Item, p []api.Stand, i int) ([]api.Ite
 	if e := CheckPack(w, s, l, p); e != api.OK {
 		return nil, nil, e
 	}
-	if !isBetween(i, 0, len(l)-1) {
+	if !limits.IsBetween(i, 0, len(l)-1) {
 		return nil, nil, api.ErrArg
 	}
 	return without(l, i), without(p, i), api.OK

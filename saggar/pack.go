@@ -4,6 +4,7 @@ import (
 	"slices"
 
 	"potbank/api"
+	"potbank/limits"
 )
 
 // isPacking reports whether stands are a packing of items that need so much.
@@ -154,7 +155,7 @@ func Nth(w api.Wares, s api.Box, l []api.Item, n int) ([]api.Stand, api.Errno) {
 	if e != api.OK {
 		return nil, e
 	}
-	if !isBetween(n, 0, api.MaxPacks-1) {
+	if !limits.IsBetween(n, 0, api.MaxPacks-1) {
 		return nil, api.ErrNone
 	}
 	p, is := nth(s, feet, n)

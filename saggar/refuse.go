@@ -4,6 +4,7 @@ import (
 	"slices"
 
 	"potbank/api"
+	"potbank/limits"
 )
 
 func area(feet []api.Foot) int {
@@ -64,7 +65,7 @@ func chosen(feet []api.Foot, items []int) []api.Foot {
 func areIndices(items []int, many int) bool {
 	last := -1
 	for _, i := range items {
-		if !isBetween(i, last+1, many-1) {
+		if !limits.IsBetween(i, last+1, many-1) {
 			return false
 		}
 		last = i

@@ -5,6 +5,7 @@ import (
 	"strings"
 
 	"potbank/api"
+	"potbank/limits"
 	"potbank/lines"
 )
 
@@ -21,7 +22,7 @@ func arePrinted(p []api.Stand) bool {
 		return false
 	}
 	for _, at := range p {
-		if !isBetween(at.Y, 0, api.MaxSide-1) || !isBetween(at.X, 0, api.MaxSide-1) {
+		if !limits.IsBetween(at.Y, 0, api.MaxSide-1) || !limits.IsBetween(at.X, 0, api.MaxSide-1) {
 			return false
 		}
 	}

@@ -1,6 +1,9 @@
 package ware
 
-import "potbank/api"
+import (
+	"potbank/api"
+	"potbank/limits"
+)
 
 // whole is the whole of which Shrink and Loss are parts.
 const whole = 1000
@@ -21,7 +24,7 @@ func Shrunk(b api.Body, wet api.Range) (api.Range, api.Errno) {
 	if e := CheckBody(b); e != api.OK {
 		return api.Range{}, e
 	}
-	if !isWithin(wet, 0, api.MaxSize) {
+	if !limits.IsRange(wet, 0, api.MaxSize) {
 		return api.Range{}, api.ErrArg
 	}
 	return turner(b.Shrink)(wet), api.OK
@@ -32,7 +35,7 @@ func Burnt(b api.Body, wet api.Range) (api.Range, api.Errno) {
 	if e := CheckBody(b); e != api.OK {
 		return api.Range{}, e
 	}
-	if !isWithin(wet, 0, api.MaxWeight) {
+	if !limits.IsRange(wet, 0, api.MaxWeight) {
 		return api.Range{}, api.ErrArg
 	}
 	return turner(b.Loss)(wet), api.OK
@@ -43,7 +46,7 @@ func Mould(b api.Body, dry api.Range) (api.Range, api.Errno) {
 	if e := CheckBody(b); e != api.OK {
 		return api.Range{}, e
 	}
-	if !isWithin(dry, 0, api.MaxSize) {
+	if !limits.IsRange(dry, 0, api.MaxSize) {
 		return api.Range{}, api.ErrArg
 	}
 	// The ends of dry are whole, so that what a length becomes lies within dry before it is rounded exactly if it does afterwards.

@@ -1,12 +1,15 @@
 package ware
 
-import "potbank/api"
+import (
+	"potbank/api"
+	"potbank/limits"
+)
 
 func checkPile(s api.Shape, many int) api.Errno {
 	if e := CheckShape(s); e != api.OK {
 		return e
 	}
-	if !isBetween(many, 1, api.MaxPile) {
+	if !limits.IsBetween(many, 1, api.MaxPile) {
 		return api.ErrPile
 	}
 	return api.OK
@@ -38,7 +41,7 @@ func Load(s api.Shape, many, at int) (api.Range, api.Errno) {
 	if e := checkPile(s, many); e != api.OK {
 		return api.Range{}, e
 	}
-	if !isBetween(at, 0, many-1) {
+	if !limits.IsBetween(at, 0, many-1) {
 		return api.Range{}, api.ErrArg
 	}
 	above := many - 1 - at

@@ -5,6 +5,7 @@ import (
 	"slices"
 
 	"potbank/api"
+	"potbank/limits"
 )
 
 func isEmpty(r api.Range) bool { return r.Lo > r.Hi }
@@ -15,9 +16,9 @@ func common(a, b api.Range) api.Range {
 }
 
 func isTrial(t api.Trial) bool {
-	return isBetween(t.Source, 1, api.MaxSource) &&
-		isWithin(t.Wet, 1, api.MaxSize) &&
-		isWithin(t.Dry, 0, api.MaxSize)
+	return limits.IsBetween(t.Source, 1, api.MaxSource) &&
+		limits.IsRange(t.Wet, 1, api.MaxSize) &&
+		limits.IsRange(t.Dry, 0, api.MaxSize)
 }
 
 // CheckTrials returns OK for trials; ErrLong if there are too many, and ErrTrial if one is not valid.
@@ -169,10 +170,10 @@ func Bar(b api.Body, source, wet int) (api.Trial, api.Errno) {
 	if e := CheckBody(b); e != api.OK {
 		return api.Trial{}, e
 	}
-	if !isBetween(wet, 1, api.MaxSize) {
+	if !limits.IsBetween(wet, 1, api.MaxSize) {
 		return api.Trial{}, api.ErrArg
 	}
-	if !isBetween(source, 1, api.MaxSource) {
+	if !limits.IsBetween(source, 1, api.MaxSource) {
 		return api.Trial{}, api.ErrTrial
 	}
 	length := api.Range{Lo: wet, Hi: wet}

@@ -1,7 +1,10 @@
 // Package ware is layer 1: shapes and clay bodies, what they become in the kiln, piles, trials, and their texts. See shared/doc/01-ware.md.
 package ware
 
-import "potbank/api"
+import (
+	"potbank/api"
+	"potbank/limits"
+)
 
 // entry is what wares keep by its Id.
 type entry interface {
@@ -24,27 +27,20 @@ func (s shape) id() int { return s.Id }
 func (b body) id() int { return b.Id }
 
 func (s shape) valid() bool {
-	return isBetween(s.Id, 1, api.MaxId) &&
-		isWithin(s.Wide, 0, api.MaxSize) &&
-		isWithin(s.Deep, 0, api.MaxSize) &&
-		isWithin(s.High, 0, api.MaxSize) &&
-		isBetween(s.Nest, 0, s.High.Lo) &&
-		isWithin(s.Weight, 0, api.MaxWeight) &&
-		isBetween(s.Bears, 0, api.MaxBears)
+	return limits.IsBetween(s.Id, 1, api.MaxId) &&
+		limits.IsRange(s.Wide, 0, api.MaxSize) &&
+		limits.IsRange(s.Deep, 0, api.MaxSize) &&
+		limits.IsRange(s.High, 0, api.MaxSize) &&
+		limits.IsBetween(s.Nest, 0, s.High.Lo) &&
+		limits.IsRange(s.Weight, 0, api.MaxWeight) &&
+		limits.IsBetween(s.Bears, 0, api.MaxBears)
 }
 
 func (b body) valid() bool {
-	return isBetween(b.Id, 1, api.MaxId) &&
-		isWithin(b.Shrink, 0, api.MaxShrink) &&
-		isWithin(b.Loss, 0, api.MaxLoss) &&
-		isWithin(b.Heat, 1, api.MaxHeat)
-}
-
-func isBetween(n, lo, hi int) bool { return lo <= n && n <= hi }
-
-// isWithin reports whether a range has a number, and all of its numbers are from lo to hi.
-func isWithin(r api.Range, lo, hi int) bool {
-	return lo <= r.Lo && r.Lo <= r.Hi && r.Hi <= hi
+	return limits.IsBetween(b.Id, 1, api.MaxId) &&
+		limits.IsRange(b.Shrink, 0, api.MaxShrink) &&
+		limits.IsRange(b.Loss, 0, api.MaxLoss) &&
+		limits.IsRange(b.Heat, 1, api.MaxHeat)
 }
 
 // areKept reports whether a list has at most so many entries, all of them valid, by rising Ids.
