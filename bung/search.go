@@ -5,6 +5,7 @@ import (
 	"slices"
 
 	"potbank/api"
+	"potbank/parts"
 )
 
 // choices yields the rising lists of so many of n indices, the first one (R6) first, all in the same memory.
@@ -74,45 +75,21 @@ func (y yard) does(list []int) bool {
 	return fits(api.Bung{Wad: y.wad, Saggars: saggars}, y.spot) == api.Yes
 }
 
-// stacking puts the saggars of a yard into bungs that do.
-type stacking struct {
-	yard  yard
-	bungs [][]int
-	tried map[[api.MaxSearch]bool]bool
-}
-
-// does tells the same as that of the yard, and remembers it: the search comes to the same list in many ways.
-func (t *stacking) does(list []int) bool {
-	var has [api.MaxSearch]bool
-	for _, i := range list {
-		has[i] = true
-	}
-	does, known := t.tried[has]
-	if !known {
-		does = t.yard.does(list)
-		t.tried[has] = does
-	}
-	return does
-}
-
-// put puts the saggars from the index i on into the bungs, by the first way of R6; false, and the bungs as they were, if there is none.
-func (t *stacking) put(i int) bool {
-	if i == len(t.yard.saggars) {
-		return true
-	}
-	for at := range t.bungs {
-		t.bungs[at] = append(t.bungs[at], i)
-		// A bung that does not do would not with more saggars either.
-		if t.does(t.bungs[at]) && t.put(i+1) {
-			return true
+// remembered returns what tells the same as does, and remembers it: a search comes to the same list in many ways.
+func (y yard) remembered() func(list []int) bool {
+	tried := map[[api.MaxSearch]bool]bool{}
+	return func(list []int) bool {
+		var has [api.MaxSearch]bool
+		for _, i := range list {
+			has[i] = true
 		}
-		t.bungs[at] = t.bungs[at][:len(t.bungs[at])-1]
-		// What fails in one empty bung fails in the next one too.
-		if len(t.bungs[at]) == 0 {
-			return false
+		does, known := tried[has]
+		if !known {
+			does = y.does(list)
+			tried[has] = does
 		}
+		return does
 	}
-	return false
 }
 
 // Fewest returns saggars in the fewest bungs that do for a wad and a spot; ErrNone if no bungs do.
@@ -123,30 +100,11 @@ func Fewest(wad api.Range, l []api.Saggar, s api.Spot) ([][]int, api.Errno) {
 	if len(l) > api.MaxSearch {
 		return nil, api.ErrMany
 	}
-	t := stacking{yard: yard{wad, l, s}, tried: map[[api.MaxSearch]bool]bool{}}
-	for i := range l {
-		if !t.does([]int{i}) {
-			return nil, api.ErrNone
-		}
+	bungs, do := parts.Fewest(len(l), yard{wad, l, s}.remembered())
+	if !do {
+		return nil, api.ErrNone
 	}
-	for !t.put(0) {
-		t.bungs = append(t.bungs, nil)
-	}
-	return t.bungs, api.OK
-}
-
-// areBungs reports whether lists are bungs of n saggars.
-func areBungs(bungs [][]int, n int) bool {
-	var all []int
-	first := -1
-	for _, bung := range bungs {
-		if len(bung) == 0 || bung[0] <= first || !slices.IsSorted(bung) {
-			return false
-		}
-		first = bung[0]
-		all = append(all, bung...)
-	}
-	return len(all) == n && areIndices(all, n)
+	return bungs, api.OK
 }
 
 // CheckBungs returns OK if bungs are some of the saggars that do for a wad and a spot; ErrParts if they are no bungs, ErrNone if they do not.
@@ -154,7 +112,7 @@ func CheckBungs(wad api.Range, l []api.Saggar, s api.Spot, bungs [][]int) api.Er
 	if e := checkYard(wad, l, s); e != api.OK {
 		return e
 	}
-	if !areBungs(bungs, len(l)) {
+	if !parts.Are(bungs, len(l)) {
 		return api.ErrParts
 	}
 	y := yard{wad, l, s}

@@ -4,7 +4,7 @@ import (
 	"slices"
 
 	"potbank/api"
-	"potbank/limits"
+	"potbank/parts"
 )
 
 func area(feet []api.Foot) int {
@@ -61,18 +61,6 @@ func chosen(feet []api.Foot, items []int) []api.Foot {
 	return some
 }
 
-// areIndices reports whether a list has indices of so many items, strictly increasing.
-func areIndices(items []int, many int) bool {
-	last := -1
-	for _, i := range items {
-		if !limits.IsBetween(i, last+1, many-1) {
-			return false
-		}
-		last = i
-	}
-	return true
-}
-
 // Refuse returns a reason of the least kind why items do not fit; ErrNone if there is a packing.
 func Refuse(w api.Wares, s api.Box, l []api.Item) (api.Refusal, api.Errno) {
 	feet, e := Feet(w, s, l)
@@ -108,7 +96,7 @@ func CheckRefusal(w api.Wares, s api.Box, l []api.Item, r api.Refusal) api.Errno
 	if e != api.OK {
 		return e
 	}
-	if !areIndices(r.Items, len(l)) || !isTrouble(r.Kind, s, chosen(feet, r.Items)) {
+	if !parts.IsSet(r.Items, len(l)) || !isTrouble(r.Kind, s, chosen(feet, r.Items)) {
 		return api.ErrRefusal
 	}
 	for i := range r.Items {
