@@ -4,6 +4,7 @@ import (
 	"slices"
 
 	"potbank/api"
+	"potbank/clash"
 )
 
 // sources returns the sources of readings, rising, each once.
@@ -47,33 +48,23 @@ func Without(f api.Firing, source int) (api.Firing, api.Errno) {
 	return copied(rest), api.OK
 }
 
+// contradict returns what reports whether the readings of some sources alone contradict each other.
+func contradict(f api.Firing) func(by []int) bool {
+	return func(by []int) bool {
+		return !isSound(leftOut(f, func(source int) bool { return !slices.Contains(by, source) }))
+	}
+}
+
 // Conflict returns sources, rising, that contradict each other, and no longer do without any one of them; ErrNone if the firing is sound.
 func Conflict(f api.Firing) ([]int, api.Errno) {
 	if e := checkFiring(f); e != api.OK {
 		return nil, e
 	}
-	if isSound(f) {
+	by, do := clash.Of(sources(f.Readings), contradict(f))
+	if !do {
 		return nil, api.ErrNone
 	}
-	for _, source := range slices.Backward(sources(f.Readings)) {
-		if rest := without(f, source); !isSound(rest) {
-			f = rest
-		}
-	}
-	return sources(f.Readings), api.OK
-}
-
-// isConflict reports whether the sources of a firing contradict each other, but do not without any one of them.
-func isConflict(f api.Firing) bool {
-	if isSound(f) {
-		return false
-	}
-	for _, source := range sources(f.Readings) {
-		if !isSound(without(f, source)) {
-			return false
-		}
-	}
-	return true
+	return by, api.OK
 }
 
 // CheckConflict returns OK if by are sources of a firing, strictly increasing, that contradict each other, and no longer do without any one of them; otherwise ErrConflict.
@@ -81,8 +72,7 @@ func CheckConflict(f api.Firing, by []int) api.Errno {
 	if e := checkFiring(f); e != api.OK {
 		return e
 	}
-	alone := leftOut(f, func(source int) bool { return !slices.Contains(by, source) })
-	if !slices.Equal(sources(alone.Readings), by) || !isConflict(alone) {
+	if !clash.Is(by, sources(f.Readings), contradict(f)) {
 		return api.ErrConflict
 	}
 	return api.OK

@@ -5,6 +5,7 @@ import (
 	"slices"
 
 	"potbank/api"
+	"potbank/clash"
 	"potbank/limits"
 )
 
@@ -109,14 +110,9 @@ func sources(l []api.Trial) []int {
 	return slices.Compact(all)
 }
 
-// without returns a copy of a list that lacks the element with an index.
-func without(l []int, i int) []int {
-	return slices.Concat(l[:i], l[i+1:])
-}
-
-// contradict reports whether the trials of some sources contradict a body.
-func contradict(b api.Body, l []api.Trial, by []int) bool {
-	return isEmpty(allowed(b.Shrink, trialsBy(l, by)))
+// contradict returns what reports whether the trials of some sources contradict a body.
+func contradict(b api.Body, l []api.Trial) func(by []int) bool {
+	return func(by []int) bool { return isEmpty(allowed(b.Shrink, trialsBy(l, by))) }
 }
 
 // Clash returns sources whose trials contradict the body, and none of which can be left out; ErrNone if all trials do not contradict it.
@@ -124,29 +120,11 @@ func Clash(b api.Body, l []api.Trial) ([]int, api.Errno) {
 	if e := checkTold(b, l); e != api.OK {
 		return nil, e
 	}
-	by := sources(l)
-	if !contradict(b, l, by) {
+	by, do := clash.Of(sources(l), contradict(b, l))
+	if !do {
 		return nil, api.ErrNone
 	}
-	for i := len(by) - 1; i >= 0; i-- {
-		if rest := without(by, i); contradict(b, l, rest) {
-			by = rest
-		}
-	}
 	return by, api.OK
-}
-
-// areSources reports whether a list has sources of the trials alone, strictly increasing.
-func areSources(l []api.Trial, by []int) bool {
-	all := sources(l)
-	last := 0
-	for _, s := range by {
-		if s <= last || !slices.Contains(all, s) {
-			return false
-		}
-		last = s
-	}
-	return true
 }
 
 // CheckClash returns OK if the trials of the sources contradict the body, and those without any one of them do not; otherwise ErrClash.
@@ -154,13 +132,8 @@ func CheckClash(b api.Body, l []api.Trial, by []int) api.Errno {
 	if e := checkTold(b, l); e != api.OK {
 		return e
 	}
-	if !areSources(l, by) || !contradict(b, l, by) {
+	if !clash.Is(by, sources(l), contradict(b, l)) {
 		return api.ErrClash
-	}
-	for i := range by {
-		if contradict(b, l, without(by, i)) {
-			return api.ErrClash
-		}
 	}
 	return api.OK
 }
