@@ -7,6 +7,7 @@ import (
 	"testing"
 
 	"potbank/clash"
+	"potbank/probe"
 )
 
 // areAny returns what tells that sources contradict each other if all of some set are among them.
@@ -18,17 +19,6 @@ func areAny(sets ...[]int) func(by []int) bool {
 
 func isIn(list, other []int) bool {
 	return !slices.ContainsFunc(list, func(i int) bool { return !slices.Contains(other, i) })
-}
-
-// choices returns all lists of some of the sources, in their order.
-func choices(sources []int) [][]int {
-	all := [][]int{nil}
-	for _, source := range sources {
-		for _, some := range all {
-			all = append(all, append(slices.Clone(some), source))
-		}
-	}
-	return all
 }
 
 func TestOfLeavesOutTheLastFirst(t *testing.T) {
@@ -84,7 +74,7 @@ func TestIsExamples(t *testing.T) {
 func TestAnySets(t *testing.T) {
 	r := rand.New(rand.NewSource(1))
 	sources := []int{2, 3, 5, 8, 13}
-	lists := choices(sources)
+	lists := probe.Choices(sources)
 	for range 500 {
 		var sets [][]int
 		for range 1 + r.Intn(3) {

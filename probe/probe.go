@@ -23,6 +23,17 @@ func WrongRanges(lo, hi int) []api.Range {
 	return l
 }
 
+// Choices returns all lists of some elements of a list, in their order.
+func Choices[T any](list []T) [][]T {
+	all := [][]T{nil}
+	for _, v := range list {
+		for _, some := range all {
+			all = append(all, append(slices.Clone(some), v))
+		}
+	}
+	return all
+}
+
 // Told is what a call told: its error, and whether its other results are zero values.
 type Told struct {
 	Zero  bool

@@ -91,3 +91,20 @@ func TestWrongNumbersAndRanges(t *testing.T) {
 		}
 	}
 }
+
+func TestChoices(t *testing.T) {
+	all := probe.Choices([]int{5, 3, 4})
+	want := [][]int{nil, {5}, {3}, {5, 3}, {4}, {5, 4}, {3, 4}, {5, 3, 4}}
+	if !slices.EqualFunc(all, want, slices.Equal[[]int]) {
+		t.Error(all)
+	}
+	// Lists that shared memory would be overwritten by later ones.
+	many := probe.Choices([]int{1, 2, 3, 4, 5, 6})
+	slices.SortFunc(many, slices.Compare[[]int])
+	if n := len(slices.CompactFunc(many, slices.Equal[[]int])); n != 64 {
+		t.Error(n)
+	}
+	if all := probe.Choices[string](nil); len(all) != 1 || len(all[0]) != 0 {
+		t.Error(all)
+	}
+}
