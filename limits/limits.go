@@ -8,3 +8,17 @@ func IsBetween(n, lo, hi int) bool { return lo <= n && n <= hi }
 
 // IsRange reports whether a range has a number, and all of its numbers are from lo to hi.
 func IsRange(r api.Range, lo, hi int) bool { return lo <= r.Lo && r.Lo <= r.Hi && r.Hi <= hi }
+
+// IsDay reports whether there is such a day.
+func IsDay(day int) bool { return IsBetween(day, 0, api.MaxDay) }
+
+// IsSource reports whether a source may have this number.
+func IsSource(source int) bool { return IsBetween(source, 1, api.MaxSource) }
+
+// IsPiece reports whether a piece may have this number.
+func IsPiece(piece int) bool { return IsBetween(piece, 1, api.MaxPiece) }
+
+// ArePieces reports whether one event, work or claim may be of so many pieces, from the first one on.
+func ArePieces(first, many int) bool {
+	return IsPiece(first) && IsBetween(many, 1, api.MaxMany) && IsPiece(first+many-1)
+}

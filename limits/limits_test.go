@@ -36,3 +36,39 @@ func TestIsRange(t *testing.T) {
 		}
 	}
 }
+
+func TestNumbersOfOneLimit(t *testing.T) {
+	for _, x := range []struct {
+		is     func(n int) bool
+		lo, hi int
+	}{{limits.IsDay, 0, 100000}, {limits.IsSource, 1, 99999}, {limits.IsPiece, 1, 9999}} {
+		for _, n := range []int{x.lo, x.lo + 1, 777, x.hi} {
+			if !x.is(n) {
+				t.Error(x.lo, n)
+			}
+		}
+		for _, n := range probe.WrongNumbers(x.lo, x.hi) {
+			if x.is(n) {
+				t.Error(x.lo, n)
+			}
+		}
+	}
+}
+
+func TestArePieces(t *testing.T) {
+	for first := -2; first < 10010; first++ {
+		for many := -2; many < 43; many++ {
+			want := first >= 1 && many >= 1 && many <= 40 && first+many <= 10000
+			if limits.ArePieces(first, many) != want {
+				t.Fatal(first, many)
+			}
+		}
+	}
+	for _, n := range probe.WrongNumbers(1, 40) {
+		for _, m := range probe.WrongNumbers(1, 9999) {
+			if limits.ArePieces(1, n) || limits.ArePieces(9999, n) || limits.ArePieces(m, 1) || limits.ArePieces(m, n) {
+				t.Error(m, n)
+			}
+		}
+	}
+}

@@ -47,15 +47,9 @@ func hasItsFieldsAlone(x api.Event) bool {
 
 func isFiring(firing int) bool { return limits.IsBetween(firing, 1, api.MaxFiring) }
 
-func isPiece(piece int) bool { return limits.IsBetween(piece, 1, api.MaxPiece) }
-
 func isPlace(place int) bool { return limits.IsBetween(place, 0, api.MaxPlaces-1) }
 
 func isFall(fall api.Range) bool { return limits.IsRange(fall, 0, api.MaxFall) }
-
-func arePieces(first, many int) bool {
-	return isPiece(first) && limits.IsBetween(many, 1, api.MaxMany) && isPiece(first+many-1)
-}
 
 // kilnOf returns a kiln all of whose falls are alike.
 func kilnOf(mouths, places int, fall api.Range) api.Kiln {
@@ -75,13 +69,13 @@ func isWithdrawal(x api.Event) bool {
 }
 
 func isEvent(x api.Event) bool {
-	if !isEntry(x.At) || !limits.IsBetween(x.Known, 0, api.MaxDay) || !hasItsFieldsAlone(x) {
+	if !isEntry(x.At) || !limits.IsDay(x.Known) || !hasItsFieldsAlone(x) {
 		return false
 	}
 	if x.Kind == api.EvWithdraw {
 		return isWithdrawal(x)
 	}
-	return limits.IsBetween(x.Day, 0, api.MaxDay) && x.Of == api.Entry{} && isTold(x)
+	return limits.IsDay(x.Day) && x.Of == api.Entry{} && isTold(x)
 }
 
 // isTold reports whether the numbers of an event that is no withdrawal are such as its kind may have.
@@ -92,13 +86,13 @@ func isTold(x api.Event) bool {
 	case api.EvFall:
 		return isFiring(x.Firing) && limits.IsBetween(x.Mouth, 0, api.MaxMouths-1) && isPlace(x.Place) && isFall(x.Fall)
 	case api.EvSet:
-		return isFiring(x.Firing) && isPlace(x.Place) && limits.IsBetween(x.Body, 1, api.MaxId) && arePieces(x.First, x.Many)
+		return isFiring(x.Firing) && isPlace(x.Place) && limits.IsBetween(x.Body, 1, api.MaxId) && limits.ArePieces(x.First, x.Many)
 	case api.EvRead:
 		return isFiring(x.Firing) && isReading(x.Reading)
 	case api.EvDrawn:
 		return isFiring(x.Firing)
 	case api.EvSold, api.EvBroken, api.EvSecond:
-		return arePieces(x.First, x.Many)
+		return limits.ArePieces(x.First, x.Many)
 	}
 	return false
 }

@@ -11,7 +11,7 @@ import (
 
 func checkDays(days ...int) api.Errno {
 	for _, day := range days {
-		if !limits.IsBetween(day, 0, api.MaxDay) {
+		if !limits.IsDay(day) {
 			return api.ErrDay
 		}
 	}
@@ -106,7 +106,7 @@ func Heat(l []api.Event, firing, place, known int) (api.Range, api.Errno) {
 
 // Piece returns what is known of a piece on a day.
 func Piece(l []api.Event, no, known int) (api.Piece, api.Errno) {
-	if e := checkOne(l, isPiece(no), known); e != api.OK {
+	if e := checkOne(l, limits.IsPiece(no), known); e != api.OK {
 		return api.Piece{}, e
 	}
 	return factsOf(l, known).piece(no), api.OK

@@ -6,6 +6,7 @@ import (
 
 	"potbank/api"
 	"potbank/heat"
+	"potbank/limits"
 	"potbank/ware"
 )
 
@@ -45,7 +46,7 @@ func judgedPiece(w api.Wares, l []api.Event, piece, known int) told {
 	if e := ware.Check(w); e != api.OK {
 		return told{err: e}
 	}
-	if e := checkOne(l, isPiece(piece), known); e != api.OK {
+	if e := checkOne(l, limits.IsPiece(piece), known); e != api.OK {
 		return told{err: e}
 	}
 	return factsOf(l, known).judgePiece(w, piece)

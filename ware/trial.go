@@ -17,7 +17,7 @@ func common(a, b api.Range) api.Range {
 }
 
 func isTrial(t api.Trial) bool {
-	return limits.IsBetween(t.Source, 1, api.MaxSource) &&
+	return limits.IsSource(t.Source) &&
 		limits.IsRange(t.Wet, 1, api.MaxSize) &&
 		limits.IsRange(t.Dry, 0, api.MaxSize)
 }
@@ -146,7 +146,7 @@ func Bar(b api.Body, source, wet int) (api.Trial, api.Errno) {
 	if !limits.IsBetween(wet, 1, api.MaxSize) {
 		return api.Trial{}, api.ErrArg
 	}
-	if !limits.IsBetween(source, 1, api.MaxSource) {
+	if !limits.IsSource(source) {
 		return api.Trial{}, api.ErrTrial
 	}
 	length := api.Range{Lo: wet, Hi: wet}
