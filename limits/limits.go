@@ -1,4 +1,4 @@
-// Package limits tells whether numbers and ranges, of all layers, keep to the limits that the document names.
+// Package limits tells whether numbers, ranges and entries, of all layers, keep to the limits that the document names.
 package limits
 
 import "potbank/api"
@@ -21,4 +21,20 @@ func IsPiece(piece int) bool { return IsBetween(piece, 1, api.MaxPiece) }
 // ArePieces reports whether one event, work or claim may be of so many pieces, from the first one on.
 func ArePieces(first, many int) bool {
 	return IsPiece(first) && IsBetween(many, 1, api.MaxMany) && IsPiece(first+many-1)
+}
+
+// IsEntry reports whether a record may have this place in the books.
+func IsEntry(x api.Entry) bool {
+	return IsBetween(x.House, 0, api.MaxHouses-1) && IsBetween(x.No, 0, api.MaxNo)
+}
+
+// IsAhead reports whether a record may have the place x, in the book of the same house as y and ahead of it.
+func IsAhead(x, y api.Entry) bool { return IsEntry(x) && x.House == y.House && x.No < y.No }
+
+// Unless returns OK if something is so, and otherwise an error. Of several of these cmp.Or is the first one that is not OK.
+func Unless(is bool, e api.Errno) api.Errno {
+	if is {
+		return api.OK
+	}
+	return e
 }

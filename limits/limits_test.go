@@ -72,3 +72,43 @@ func TestArePieces(t *testing.T) {
 		}
 	}
 }
+
+func entry(house, no int) api.Entry { return api.Entry{House: house, No: no} }
+
+func TestIsEntry(t *testing.T) {
+	for _, x := range []api.Entry{entry(0, 0), entry(5, 0), entry(0, 9999), entry(5, 9999), entry(2, 77)} {
+		if !limits.IsEntry(x) {
+			t.Error(x)
+		}
+	}
+	for _, n := range probe.WrongNumbers(0, 5) {
+		if limits.IsEntry(entry(n, 0)) {
+			t.Error(n)
+		}
+	}
+	for _, n := range probe.WrongNumbers(0, 9999) {
+		if limits.IsEntry(entry(0, n)) {
+			t.Error(n)
+		}
+	}
+}
+
+func TestIsAhead(t *testing.T) {
+	for _, x := range []struct {
+		is   bool
+		x, y api.Entry
+	}{
+		{true, entry(2, 0), entry(2, 1)}, {true, entry(5, 3), entry(5, 9999)}, {false, entry(2, 3), entry(2, 3)}, {false, entry(2, 4), entry(2, 3)},
+		{false, entry(1, 0), entry(2, 1)}, {false, entry(3, 0), entry(2, 1)}, {false, entry(2, -1), entry(2, 1)}, {false, entry(6, 0), entry(6, 1)},
+	} {
+		if limits.IsAhead(x.x, x.y) != x.is {
+			t.Error(x)
+		}
+	}
+}
+
+func TestUnless(t *testing.T) {
+	if limits.Unless(true, api.ErrLong) != api.OK || limits.Unless(false, api.ErrLong) != api.ErrLong {
+		t.Error("it is not the error of what is not so")
+	}
+}

@@ -4,6 +4,7 @@ import (
 	"slices"
 
 	"potbank/api"
+	"potbank/limits"
 )
 
 // due is what the master pays the maker of a piece, and what the fireman pays the master.
@@ -53,5 +54,5 @@ func InForce(s api.Shop, trade, day int) (api.Custom, api.Errno) {
 		return api.Custom{}, e
 	}
 	c, ok := inForce(s.Customs, trade, day)
-	return c, unless(ok, api.ErrForce)
+	return c, limits.Unless(ok, api.ErrForce)
 }

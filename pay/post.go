@@ -113,7 +113,7 @@ func CheckPosts(s api.Shop, known int, l []api.Post) api.Errno {
 	if e := checkDay(s, known); e != api.OK {
 		return e
 	}
-	return unless(slices.Equal(l, posted(s, known)), api.ErrPosts)
+	return limits.Unless(slices.Equal(l, posted(s, known)), api.ErrPosts)
 }
 
 // Corrected returns the postings of a day.
@@ -125,7 +125,7 @@ func Corrected(s api.Shop, known int) ([]api.Post, api.Errno) {
 // Balance returns what a party has been paid up to a day, less what it paid.
 func Balance(s api.Shop, party, known int) (int, api.Errno) {
 	isParty := limits.IsBetween(party, api.Master, api.Fireman+api.MaxMaker)
-	if e := cmp.Or(Check(s), unless(isParty, api.ErrParty), unless(limits.IsDay(known), api.ErrDay)); e != api.OK {
+	if e := cmp.Or(Check(s), limits.Unless(isParty, api.ErrParty), limits.Unless(limits.IsDay(known), api.ErrDay)); e != api.OK {
 		return 0, e
 	}
 	return sum(posted(s, known), func(p api.Post) int {

@@ -64,16 +64,12 @@ func isReading(r api.Reading) bool {
 	return heat.CheckReading(kilnOf(1, api.MaxPlaces, api.Range{}), r) == api.OK
 }
 
-func isWithdrawal(x api.Event) bool {
-	return x.Day == 0 && isEntry(x.Of) && x.Of.House == x.At.House && x.Of.No < x.At.No
-}
-
 func isEvent(x api.Event) bool {
-	if !isEntry(x.At) || !limits.IsDay(x.Known) || !hasItsFieldsAlone(x) {
+	if !limits.IsEntry(x.At) || !limits.IsDay(x.Known) || !hasItsFieldsAlone(x) {
 		return false
 	}
 	if x.Kind == api.EvWithdraw {
-		return isWithdrawal(x)
+		return x.Day == 0 && limits.IsAhead(x.Of, x.At)
 	}
 	return limits.IsDay(x.Day) && x.Of == api.Entry{} && isTold(x)
 }
