@@ -8,6 +8,49 @@ import (
 	"potbank/lines"
 )
 
+func TestOf(t *testing.T) {
+	for text, want := range map[string]string{
+		"":              "",
+		"\n":            "1:",
+		"a":             "1:a",
+		"a\n":           "1:a",
+		"\na b\n\n#c":   "1:|2:a b|3:|4:#c",
+		"\n\n":          "1:|2:",
+		" \r\n\x00\xff": "1: \r|2:\x00\xff",
+	} {
+		var got []string
+		for n, line := range lines.Of(text) {
+			got = append(got, string(rune('0'+n))+":"+line)
+		}
+		if s := strings.Join(got, "|"); s != want {
+			t.Errorf("%q: %q, not %q", text, s, want)
+		}
+	}
+}
+
+func TestOfCanBeLeft(t *testing.T) {
+	last := ""
+	for n, line := range lines.Of("a\nb\nc") {
+		last = line
+		if n == 2 {
+			break
+		}
+	}
+	if last != "b" {
+		t.Error(last)
+	}
+}
+
+func TestWords(t *testing.T) {
+	for line, want := range map[string]string{
+		"": "", "   ": "", "#": "", "# a": "", " # a ": "#,a", "a": "a", "  a  -1 \tb": "a,-1,\tb", "a\nb c": "a\nb,c", "\xff \u00a0": "\xff,\u00a0",
+	} {
+		if s := strings.Join(lines.Words(line), ","); s != want {
+			t.Errorf("%q: %q, not %q", line, s, want)
+		}
+	}
+}
+
 func TestSaying(t *testing.T) {
 	for text, want := range map[string]string{
 		"":                              "",
@@ -64,6 +107,53 @@ func TestNumber(t *testing.T) {
 	}
 }
 
+func TestSigned(t *testing.T) {
+	for word, want := range map[string]int{"0": 0, "7": 7, "-7": -7, "120": 120, "-120": -120, "999": 999, "-999": -999} {
+		if n, ok := lines.Signed(word, 3); n != want || !ok {
+			t.Errorf("%q: %v %v", word, n, ok)
+		}
+	}
+	for _, word := range []string{"", "-", "-0", "--1", "+1", "-01", "00", "- 1", "1-", "-a", "1000", "-1000"} {
+		if n, ok := lines.Signed(word, 3); n != 0 || ok {
+			t.Errorf("%q: %v %v", word, n, ok)
+		}
+	}
+	if n, ok := lines.Signed("-999999999999999999", 99); n != -999999999999999999 || !ok {
+		t.Error(n, ok)
+	}
+}
+
+func TestRow(t *testing.T) {
+	for want, numbers := range map[string][]int{"": nil, "0": {0}, "-1": {-1}, "10 -20 0 3": {10, -20, 0, 3}, "999999999999999999": {999999999999999999}} {
+		if row := lines.Row(numbers...); row != want {
+			t.Errorf("%q, not %q", row, want)
+		}
+		if l, ok := lines.ReadRow(want); !slices.Equal(l, numbers) || !ok {
+			t.Error(want, l, ok)
+		}
+	}
+	for _, row := range []string{" ", " 1", "1 ", "1  2", "1 a", "a", "1,2", "01", "-0", "+1", "1\t2", "1\n", "9999999999999999999", "-9999999999999999999"} {
+		if l, ok := lines.ReadRow(row); len(l) != 0 || ok {
+			t.Errorf("%q: %v %v", row, l, ok)
+		}
+	}
+}
+
+func TestFill(t *testing.T) {
+	a, b := 7, 8
+	for _, row := range []string{"", "1", "1 2 3", "1 x", "1  2"} {
+		if lines.Fill(row, &a, &b) || a != 7 || b != 8 {
+			t.Errorf("%q: %v %v", row, a, b)
+		}
+	}
+	if !lines.Fill("-3 4", &a, &b) || a != -3 || b != 4 {
+		t.Error(a, b)
+	}
+	if !lines.Fill("") || lines.Fill("1") {
+		t.Error("no numbers are none")
+	}
+}
+
 func TestCount(t *testing.T) {
 	for text, want := range map[string]int{"": 0, "\n": 1, "a": 1, "a\n": 1, "#": 1, " ": 1, "\n\n": 2, "\na": 2, "a\n\nb": 3, "a\n#\n \n": 3, "\r": 1} {
 		if n := lines.Count(text); n != want {
@@ -86,6 +176,14 @@ func TestNumbers(t *testing.T) {
 	}
 	if l, ok := lines.Numbers(nil, -1, 2); len(l) != 0 || ok {
 		t.Error(l, ok)
+	}
+}
+
+func TestLine(t *testing.T) {
+	for want, line := range map[string]string{"a": lines.Line("a"), "a 0": lines.Line("a", 0), "b -1 20": lines.Line("b", -1, 20)} {
+		if line != want {
+			t.Errorf("%q, not %q", line, want)
+		}
 	}
 }
 

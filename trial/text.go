@@ -1,44 +1,26 @@
 package trial
 
 import (
-	"strconv"
-	"strings"
-
 	"potbank/api"
 	"potbank/lines"
 )
-
-// maxDigits is more than any number of an event's text has.
-const maxDigits = 9
 
 // wrongText is what reading a text panics with that is not one of an event.
 type wrongText struct{}
 
 // row returns the text of numbers, with one space between them.
 func row(numbers ...*int) string {
-	words := make([]string, len(numbers))
+	told := make([]int, len(numbers))
 	for i, n := range numbers {
-		words[i] = strconv.Itoa(*n)
+		told[i] = *n
 	}
-	return strings.Join(words, " ")
-}
-
-// wordsOf parts a text at each space, so that of two spaces that follow each other there comes an empty word, which is no number.
-func wordsOf(text string) []string {
-	if text == "" {
-		return nil
-	}
-	return strings.Split(text, " ")
+	return lines.Row(told...)
 }
 
 // readRow puts numbers to what a text tells; the text is wrong unless it is the row of so many.
 func readRow(text string, numbers ...*int) {
-	told, ok := lines.Numbers(wordsOf(text), len(numbers), maxDigits)
-	if !ok {
+	if !lines.Fill(text, numbers...) {
 		panic(wrongText{})
-	}
-	for i, n := range numbers {
-		*n = told[i]
 	}
 }
 
